@@ -1,0 +1,1 @@
+"""Shapeorders: in which order numbers stand in a row."""
